@@ -1,0 +1,1 @@
+"""Dimkeepers: keepers who remember few, and what they know together."""

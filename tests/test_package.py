@@ -1,0 +1,64 @@
+"""The package as a whole: its interface, and the plainest rules of its language."""
+
+import ast
+import inspect
+import pathlib
+import unittest
+
+from dimkeepers import boards, lots
+
+FOLDER = pathlib.Path(boards.__file__).parent
+INTERFACE = {
+    boards: {"fault": ["board"], "things": ["board"], "names": ["board"], "who": ["board", "thing"],
+             "eldest": ["board", "name"]},
+    lots: {"barred": ["board", "lot", "thing"], "stuck": ["board"], "stuck_shows": ["board", "lot"],
+           "rounds": ["board", "lot"]},
+}
+
+
+def sources():
+    return {path.name: path.read_text(encoding="utf-8") for path in sorted(FOLDER.glob("*.py"))}
+
+
+class Interface(unittest.TestCase):
+
+    def test_each_function_stands_in_its_file_with_its_arguments(self):
+        for module, functions in INTERFACE.items():
+            for name, arguments in functions.items():
+                with self.subTest(f"{module.__name__} {name}"):
+                    function = getattr(module, name)
+                    self.assertTrue(inspect.isfunction(function))
+                    self.assertEqual(module.__name__, function.__module__)
+                    self.assertEqual(arguments, list(inspect.signature(function).parameters))
+
+
+class Language(unittest.TestCase):
+
+    def test_the_folder_holds_nothing_but_files_of_the_program(self):
+        found = [path.name for path in FOLDER.iterdir() if path.name != "__pycache__"]
+        self.assertEqual(sorted(sources()), sorted(found))
+        self.assertIn("__init__.py", found)
+
+    def test_signs_and_sizes(self):
+        for name, text in sources().items():
+            with self.subTest(name):
+                self.assertTrue(all(sign == "\n" or " " <= sign <= "~" for sign in text))
+                rows = text.split("\n")
+                self.assertLessEqual(len(rows), 400)
+                self.assertLessEqual(max(len(row) for row in rows), 120)
+
+    def test_functions_are_short(self):
+        for name, text in sources().items():
+            for node in ast.walk(ast.parse(text)):
+                if isinstance(node, ast.FunctionDef):
+                    with self.subTest(f"{name} {node.name}"):
+                        self.assertLessEqual(node.end_lineno - node.lineno + 1, 40)
+
+    def test_imports_are_from_files_of_the_package(self):
+        for name, text in sources().items():
+            for node in ast.walk(ast.parse(text)):
+                with self.subTest(name):
+                    self.assertNotIsInstance(node, ast.Import)
+                    if isinstance(node, ast.ImportFrom):
+                        self.assertEqual("dimkeepers", node.module.split(".")[0])
+                        self.assertIn(node.module.split(".")[1] + ".py", sources())
