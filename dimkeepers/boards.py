@@ -91,10 +91,15 @@ def who(board, thing):
     return sorted([keeper[0] for keeper in keepers_of(board) if thing in keeper[3]])
 
 
-def eldest(board, name):
-    """The first thing that a keeper remembers, None if it remembers nothing."""
+def keeper_called(board, name):
+    """The keeper that has this name."""
     for keeper in keepers_of(board):
         if keeper[0] == name:
-            row = keeper[3]
-            return row[0] if row else None
+            return keeper
     raise NoKeeper(f"no keeper is called {name}")
+
+
+def eldest(board, name):
+    """The first thing that a keeper remembers, None if it remembers nothing."""
+    row = keeper_called(board, name)[3]
+    return row[0] if row else None

@@ -1,6 +1,8 @@
 """What the tests share: boards to ask, and calls that watch what is handed in."""
 
+import collections
 import copy
+import functools
 import itertools
 
 
@@ -16,6 +18,29 @@ def three_teams():
         (0, []),
         (2, [("cid", 1, False, ["milk"]), ("bob", 12, True, []), ("eve", 2, True, ["tea", "milk"])]),
     ]
+
+
+def one_team(least, *keepers):
+    return [(least, list(keepers))]
+
+
+def circle():
+    """x and y stand ahead of each other, z ahead of x, w behind y."""
+    return [(0, [("a", 3, True, ["z", "x", "y"]), ("b", 3, True, ["y", "x"]), ("c", 2, False, ["y", "w"])])]
+
+
+def two_circles():
+    return [
+        (0, [("a", 2, True, ["p", "q"]), ("b", 2, True, ["q", "p"])]),
+        (0, [("c", 2, True, ["x", "y"]), ("d", 2, True, ["y", "x"])]),
+        (0, [("e", 1, True, ["free"])]),
+    ]
+
+
+def ladder():
+    """Each thing stands right ahead of the next one in some row, b beside a."""
+    return [(1, [("k", 2, False, ["e", "d"]), ("l", 2, False, ["d", "a"]), ("m", 2, False, ["d", "b"]),
+                 ("n", 2, False, ["a", "c"]), ("o", 2, False, ["b", "c"])])]
 
 
 def every_order(function, **given):
@@ -56,13 +81,14 @@ def small_boards(found, rooms, split):
                 yield [(least, first), (other, second)]
 
 
-def what_histories_leave(found, rooms, split):
-    """All (leasts, rows, who forgot) that tellings of some of these things leave behind.
+@functools.cache
+def histories(found, rooms, split):
+    """All histories of some of these things, listed by what they leave: (leasts, rows, who forgot).
 
     It follows point 10 word by word and knows nothing of lots.
     """
     sides = [range(split), range(split, len(rooms))]
-    left = set()
+    left = collections.defaultdict(list)
     leasts = itertools.product(range(len(sides[0]) + 1), range(len(sides[1]) + 1))
     tellable = [set(some) for many in range(len(rooms) + 1)
                 for some in itertools.combinations(range(len(rooms)), many)]
@@ -75,5 +101,68 @@ def what_histories_leave(found, rooms, split):
                          for k in range(len(rooms))]
                 kept = tuple(tuple(had[-room:]) for had, room in zip(heard, rooms))
                 forgot = tuple(len(had) > room for had, room in zip(heard, rooms))
-                left.add((least, kept, forgot))
+                left[least, kept, forgot].append(
+                    [(thing, ["abcdefgh"[k] for k in sorted(some)]) for thing, some in zip(row, told)])
     return left
+
+
+def histories_of(board, left):
+    """Those of the listed histories that leave the board: whole ones forgot nothing."""
+    keepers = [keeper for _, team in board for keeper in team]
+    leasts = tuple(least for least, _ in board)
+    rows = tuple(tuple(row) for _, _, _, row in keepers)
+    forgots = itertools.product(*[(False,) if whole else (False, True) for _, _, whole, _ in keepers])
+    return [history for forgot in forgots for history in left.get((leasts, rows, forgot), [])]
+
+
+def behind_history(teams, history):
+    """The board of teams (least, [(name, room)]) behind a history; whole is who forgot nothing."""
+    board = []
+    for least, keepers in teams:
+        heard = [(name, room, [thing for thing, told in history if name in told]) for name, room in keepers]
+        board.append((least, [(name, room, len(had) <= room, had[-room:]) for name, room, had in heard]))
+    return board
+
+
+def small_worlds():
+    """Some sets of small boards, each with all histories of their things."""
+    for found, rooms, split in (("xyz", (2, 1), 2), ("xyz", (2, 2), 1), ("wxyz", (2, 1), 1), ("xyz", (1, 1, 1), 2),
+                                ("xyz", (1, 1, 1), 3), ("xyz", (2, 1, 1), 2)):
+        yield list(small_boards(found, rooms, split)), histories(found, rooms, split)
+
+
+def bars_by_word(board, lot, thing, uncounted=None):
+    """Whether a lot bars a thing, as point 6 tells it; of a keeper who is not counted point 14."""
+    for least, keepers in board:
+        counted = 0
+        for name, _, whole, row in keepers:
+            if thing in row:
+                counted += 1
+                if any(other in lot and row.index(other) > row.index(thing) for other in row):
+                    return True
+            elif not whole and name != uncounted and row[0] not in lot:
+                counted += 1
+        if counted < least:
+            return True
+    return False
+
+
+def orders_by_rule(board):
+    """All orders that a board can have, as point 9 tells it."""
+    found = sorted({thing for _, keepers in board for keeper in keepers for thing in keeper[3]})
+    return [list(order) for order in itertools.permutations(found)
+            if not any(bars_by_word(board, order[:k + 1], thing) for k, thing in enumerate(order))]
+
+
+def boards_with_orders():
+    """Small boards that some history leaves, each with all its orders."""
+    for found, rooms, split in (("xyz", (2, 2), 2), ("xyz", (2, 2), 1), ("xyz", (2, 1), 2), ("xyz", (1, 1, 1), 3)):
+        for board in small_boards(found, rooms, split):
+            orders = orders_by_rule(board)
+            if orders:
+                yield board, orders
+    # Of these there are more than are needed: one of so many.
+    for board in itertools.islice(small_boards("wxyz", (2, 1, 1), 3), 0, None, 17):
+        orders = orders_by_rule(board)
+        if orders:
+            yield board, orders

@@ -4,30 +4,10 @@ import unittest
 
 from dimkeepers.boards import things
 from dimkeepers.lots import barred, rounds, stuck, stuck_shows
-from tests.helpers import every_order, example, lots_of, small_boards, three_teams, what_histories_leave
-
-
-def one_team(least, *keepers):
-    return [(least, list(keepers))]
-
-
-def circle():
-    """x and y stand ahead of each other, z ahead of x, w behind y."""
-    return [(0, [("a", 3, True, ["z", "x", "y"]), ("b", 3, True, ["y", "x"]), ("c", 2, False, ["y", "w"])])]
-
-
-def two_circles():
-    return [
-        (0, [("a", 2, True, ["p", "q"]), ("b", 2, True, ["q", "p"])]),
-        (0, [("c", 2, True, ["x", "y"]), ("d", 2, True, ["y", "x"])]),
-        (0, [("e", 1, True, ["free"])]),
-    ]
-
-
-def ladder():
-    """Each thing stands right ahead of the next one in some row, b beside a."""
-    return [(1, [("k", 2, False, ["e", "d"]), ("l", 2, False, ["d", "a"]), ("m", 2, False, ["d", "b"]),
-                 ("n", 2, False, ["a", "c"]), ("o", 2, False, ["b", "c"])])]
+from tests.helpers import (
+    circle, every_order, example, histories_of, ladder, lots_of, one_team, small_boards, small_worlds, three_teams,
+    two_circles,
+)
 
 
 class Barred(unittest.TestCase):
@@ -174,22 +154,9 @@ class Stuck(unittest.TestCase):
             self.assertEqual(shown[-1:], [greatest] if greatest else [], board)
 
     def test_a_board_is_stuck_just_where_no_history_leaves_it(self):
-        found = ["x", "y", "z"]
-        for rooms, split in (((2, 1), 2), ((2, 2), 1), ((1, 1, 1), 2), ((1, 1, 1), 3)):
-            left = what_histories_leave(found, rooms, split)
-            for board in small_boards(found, rooms, split):
-                self.assertEqual(not is_left(board, left), bool(stuck(board)), board)
-
-
-def is_left(board, left):
-    """Whether the board is among what histories leave: whole ones forgot nothing."""
-    keepers = [keeper for _, team in board for keeper in team]
-    leasts = tuple(least for least, _ in board)
-    rows = tuple(tuple(row) for _, _, _, row in keepers)
-    forgots = [[]]
-    for _, _, whole, _ in keepers:
-        forgots = [[*some, forgot] for some in forgots for forgot in ((False,) if whole else (False, True))]
-    return any((leasts, rows, tuple(some)) in left for some in forgots)
+        for boards, left in small_worlds():
+            for board in boards:
+                self.assertEqual(not histories_of(board, left), bool(stuck(board)), board)
 
 
 class StuckShows(unittest.TestCase):

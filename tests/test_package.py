@@ -5,7 +5,7 @@ import inspect
 import pathlib
 import unittest
 
-from dimkeepers import boards, lots
+from dimkeepers import boards, known, lots, orders, told
 
 FOLDER = pathlib.Path(boards.__file__).parent
 INTERFACE = {
@@ -13,6 +13,14 @@ INTERFACE = {
              "eldest": ["board", "name"]},
     lots: {"barred": ["board", "lot", "thing"], "stuck": ["board"], "stuck_shows": ["board", "lot"],
            "rounds": ["board", "lot"]},
+    orders: {"can_have": ["board", "order"], "order_of": ["board"], "history_of": ["board", "order"],
+             "leaves": ["board", "history"]},
+    known: {"ahead": ["board", "one", "other"], "lot_for": ["board", "one", "other"],
+            "lot_shows": ["board", "one", "other", "lot"], "against": ["board", "one", "other"],
+            "pairs": ["board"], "newest": ["board"], "eldest_ones": ["board"]},
+    told: {"told_to": ["board", "thing", "name"], "paper": ["board", "thing", "name"],
+           "paper_shows": ["board", "thing", "name", "word", "found"],
+           "two_histories": ["board", "thing", "name"]},
 }
 
 
