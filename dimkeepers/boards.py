@@ -71,6 +71,11 @@ def fault(board):
     return None
 
 
+def keeping(name, room, whole, row):
+    """A keeper that has kept of a row what its room has place for."""
+    return (name, room, whole and len(row) <= room, row[-room:])
+
+
 def keepers_of(board):
     """The keepers of all teams, in the order of their places."""
     return [keeper for team in board for keeper in team[1]]

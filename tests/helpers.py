@@ -4,6 +4,9 @@ import collections
 import copy
 import functools
 import itertools
+import random
+
+KEEPERS = ["ann", "bob", "cid", "dan", "eve", "fay", "gus", "hal"]
 
 
 def example():
@@ -124,6 +127,31 @@ def behind_history(teams, history):
     return board
 
 
+def drawn_teams(chance, sizes, most):
+    """Teams of so many keepers, of drawn leasts and rooms."""
+    left = iter(KEEPERS)
+    return [(chance.randint(0, size), [(next(left), chance.randint(1, most)) for _ in range(size)]) for size in sizes]
+
+
+def drawn(chance, teams, found, rarely):
+    """A history of these things, each told to as many as must be and rarely to more, and the board behind it."""
+    history = []
+    for thing in found:
+        told = {name for _, keepers in teams for name, _ in keepers if chance.random() < rarely}
+        for least, keepers in teams:
+            told.update(chance.sample([name for name, _ in keepers], least))
+        history.append((thing, sorted(told)))
+    return history, behind_history(teams, history)
+
+
+def drawn_boards(number, sizes, most, tellings):
+    """So many boards that drawn histories leave, of teams of these sizes."""
+    for seed in range(number):
+        chance = random.Random(seed)
+        teams = drawn_teams(chance, sizes, most)
+        yield drawn(chance, teams, "abcdefghij"[:tellings], chance.choice([0.0, 0.2, 0.4, 0.7]))[1]
+
+
 def small_worlds():
     """Some sets of small boards, each with all histories of their things."""
     for found, rooms, split in (("xyz", (2, 1), 2), ("xyz", (2, 2), 1), ("wxyz", (2, 1), 1), ("xyz", (1, 1, 1), 2),
@@ -154,15 +182,70 @@ def orders_by_rule(board):
             if not any(bars_by_word(board, order[:k + 1], thing) for k, thing in enumerate(order))]
 
 
-def boards_with_orders():
-    """Small boards that some history leaves, each with all its orders."""
-    for found, rooms, split in (("xyz", (2, 2), 2), ("xyz", (2, 2), 1), ("xyz", (2, 1), 2), ("xyz", (1, 1, 1), 3)):
-        for board in small_boards(found, rooms, split):
-            orders = orders_by_rule(board)
-            if orders:
-                yield board, orders
-    # Of these there are more than are needed: one of so many.
-    for board in itertools.islice(small_boards("wxyz", (2, 1, 1), 3), 0, None, 17):
+def rare_boards(found, rooms, split, every):
+    """One of so many small boards, of those that can have an order, each with all its orders."""
+    for board in itertools.islice(small_boards(found, rooms, split), 0, None, every):
         orders = orders_by_rule(board)
         if orders:
             yield board, orders
+
+
+def boards_with_orders():
+    """Small boards that some history leaves, each with all its orders."""
+    for found, rooms, split in (("xyz", (2, 2), 2), ("xyz", (2, 2), 1), ("xyz", (2, 1), 2), ("xyz", (1, 1, 1), 3)):
+        yield from rare_boards(found, rooms, split, 1)
+    # Of these there are more than are needed.
+    yield from rare_boards("wxyz", (2, 1, 1), 3, 17)
+
+
+def lists_in(told):
+    """All lists within what is told, however deep, each as often as it is there."""
+    inner = [some for part in told for some in lists_in(part)] if isinstance(told, (list, tuple)) else []
+    return [told, *inner] if isinstance(told, list) else inner
+
+
+def spoil(told):
+    """Change all lists within what is told."""
+    for some in lists_in(told):
+        some.append("more")
+        some.reverse()
+        del some[1:]
+
+
+def own_lists(ask, *handed):
+    """What is asked, once its lists are seen to be new ones, of the asker's own, and no two of them one."""
+    told = ask()
+    again = copy.deepcopy(told)
+    before = repr(handed)
+    assert not {id(some) for some in lists_in(told)} & {id(some) for given in handed for some in lists_in(given)}, told
+    assert len({id(some) for some in lists_in(told)}) == len(lists_in(told)), told
+    spoil(told)
+    assert repr(handed) == before, handed
+    assert ask() == again, again
+    return again
+
+
+def refusal(error, function, **given):
+    """The error that every way to hand in the arguments is refused with; nothing of them is changed."""
+    before = copy.deepcopy(given)
+    calls = [lambda: function(*given.values())]
+    for order in itertools.permutations(given):
+        calls.append(lambda order=order: function(**{name: given[name] for name in order}))
+    caught = []
+    for call in calls:
+        try:
+            call()
+        except error as refused:
+            caught.append(refused)
+    assert len(caught) == len(calls), (function.__name__, error.__name__, given)
+    assert all(refused.__class__ is error for refused in caught), (caught, given)
+    assert repr(given) == repr(before), (before, given)
+    fields = [getattr(refused, name) for refused in caught for name in ("lot", "many", "row") if hasattr(refused, name)]
+    assert all(field == fields[0] for field in fields), fields
+    assert len({id(some) for some in lists_in(fields)}) == len(lists_in(fields)), fields
+    return caught[0]
+
+
+def known_by(orders, one, other):
+    """Whether one thing is ahead of another one in all of the orders."""
+    return one != other and all(order.index(one) < order.index(other) for order in orders)

@@ -5,15 +5,17 @@ import random
 import unittest
 
 from dimkeepers.boards import fault, keepers_of, names, things
-from dimkeepers.errors import NoOrder
+from dimkeepers.counts import many, many_ahead, nth, places
+from dimkeepers.errors import NoOrder, TooMany
 from dimkeepers.known import against, ahead, eldest_ones, lot_for, lot_shows, newest, pairs
+from dimkeepers.losses import freeing, without
 from dimkeepers.orders import can_have, history_of, leaves, order_of
+from dimkeepers.tellings import behind, kindest, lost, won
 from dimkeepers.told import paper, paper_shows, told_to, two_histories
-from tests.helpers import behind_history, bars_by_word, every_order
+from tests.helpers import KEEPERS, bars_by_word, drawn, drawn_teams, every_order, refusal
 
 LETTERS = "abcdefghijklmnopqrstuvwxyz"
 TWO_LETTERS = ["".join(both) for both in itertools.product(LETTERS, repeat=2)]
-KEEPERS = ["ann", "bob", "cid", "dan", "eve", "fay", "gus", "hal"]
 
 
 def teams_of(leasts, room):
@@ -25,15 +27,7 @@ def teams_of(leasts, room):
 def told_at_random(leasts, rarely, seed):
     """A hundred tellings, each to hardly more than must be, and the board behind them."""
     chance = random.Random(seed)
-    teams = teams_of(leasts, 12)
-    found = chance.sample(TWO_LETTERS, 100)
-    history = []
-    for thing in found:
-        told = {name for name in KEEPERS if chance.random() < rarely}
-        for least, keepers in teams:
-            told.update(chance.sample([name for name, _ in keepers], least))
-        history.append((thing, sorted(told)))
-    return history, behind_history(teams, history)
+    return drawn(chance, teams_of(leasts, 12), chance.sample(TWO_LETTERS, 100), rarely)
 
 
 def one_row_each(leasts, whole):
@@ -123,6 +117,51 @@ class Bounds(unittest.TestCase):
                     self.assertTrue(paper_shows(board, thing, name, word, found))
         self.assertEqual({("yes", "row"), ("yes", "lot"), ("no", "whole"), ("no", "lot"), ("open", None)}, seen)
 
+    def test_a_telling(self):
+        for seed, board in enumerate(itertools.islice(boards(), 0, None, 3)):
+            chance = random.Random(seed)
+            told = set(chance.sample(KEEPERS, 4))
+            for least, keepers in board:
+                told.update(chance.sample([keeper[0] for keeper in keepers], least))
+            told = sorted(told)
+            left = every_order(behind, board=board, thing="new", names=told)
+            self.assertIsNone(fault(left))
+            self.assertTrue(can_have(left, [*[thing for thing in order_of(board) if thing in things(left)], "new"]))
+            known, still, found = pairs(board), set(pairs(left)), set(things(left))
+            gone = [pair for pair in known if set(pair) <= found and pair not in still]
+            self.assertEqual(gone, every_order(lost, board=board, thing="new", names=told))
+            self.assertEqual(sorted(pair for pair in still if "new" in pair),
+                             every_order(won, board=board, thing="new", names=told))
+            self.assertLessEqual({pair for pair in still if "new" not in pair}, set(known))
+
+    def test_losses(self):
+        for seed, board in enumerate(boards()):
+            known, gone = set(pairs(board)), random.Random(seed).sample(KEEPERS, 2)
+            left = every_order(without, board=board, names=gone)
+            self.assertIsNone(fault(left))
+            self.assertTrue(can_have(left, [thing for thing in order_of(board) if thing in things(left)]))
+            self.assertLessEqual(set(pairs(left)), known)
+            self.assertEqual(256, refusal(TooMany, freeing, board=board, one="aa", other="ab").many)
+            self.assertEqual(256, refusal(TooMany, kindest, board=board, thing="new").many)
+
+    def test_orders_of_a_few_rows_are_counted(self):
+        counted = 0
+        for seed in range(40):
+            chance = random.Random(seed)
+            teams = [(least, [(name, 12) for name in some]) for least, some in zip((1, 1, 0), (["ann", "bob"], ["cid"], []))]
+            board = drawn(chance, teams, chance.sample(TWO_LETTERS, 60), 0.6)[1]
+            number = many(board)
+            for thing in chance.sample(things(board), 3):
+                self.assertEqual(number, sum(places(board, thing)))
+            one, other = chance.sample(things(board), 2)
+            self.assertEqual(number, many_ahead(board, one, other) + many_ahead(board, other, one))
+            self.assertIs(many_ahead(board, one, other) == number, ahead(board, one, other))
+            told = [nth(board, chance.randrange(number)), nth(board, number - 1), order_of(board)]
+            self.assertTrue(all(can_have(board, order) for order in told))
+            self.assertEqual(order_of(board), nth(board, 0))
+            counted += number > 1
+        self.assertGreater(counted, 10)
+
     def test_a_board_without_an_order(self):
         board = one_row_each((1, 1, 1), True)
         for ask in (order_of, pairs, newest, eldest_ones):
@@ -157,14 +196,7 @@ class WhatWasTold(unittest.TestCase):
     def test_rooms_of_all_sizes(self):
         for seed in range(60):
             chance = random.Random(seed)
-            teams = [(chance.randint(0, len(some)), [(name, chance.randint(1, 4)) for name in some])
-                     for some in (KEEPERS[:2], KEEPERS[2:5], KEEPERS[5:])]
-            history = []
-            for thing in chance.sample(TWO_LETTERS, chance.randint(0, 12)):
-                told = {name for name in KEEPERS if chance.random() < 0.3}
-                for least, keepers in teams:
-                    told.update(chance.sample([name for name, _ in keepers], least))
-                history.append((thing, sorted(told)))
-            board = behind_history(teams, history)
+            teams = drawn_teams(chance, (2, 3, 3), 4)
+            history, board = drawn(chance, teams, chance.sample(TWO_LETTERS, chance.randint(0, 12)), 0.3)
             order = [thing for thing, _ in history if thing in things(board)]
             self.assertTrue(leaves(board, history) and can_have(board, order), seed)

@@ -5,7 +5,7 @@ import inspect
 import pathlib
 import unittest
 
-from dimkeepers import boards, known, lots, orders, told
+from dimkeepers import boards, counts, known, losses, lots, orders, tellings, told
 
 FOLDER = pathlib.Path(boards.__file__).parent
 INTERFACE = {
@@ -21,6 +21,12 @@ INTERFACE = {
     told: {"told_to": ["board", "thing", "name"], "paper": ["board", "thing", "name"],
            "paper_shows": ["board", "thing", "name", "word", "found"],
            "two_histories": ["board", "thing", "name"]},
+    counts: {"many": ["board"], "many_ahead": ["board", "one", "other"], "places": ["board", "thing"],
+             "nth": ["board", "number"]},
+    losses: {"without": ["board", "names"], "freeing": ["board", "one", "other"], "showing": ["board", "one", "other"],
+             "bears": ["board", "one", "other"]},
+    tellings: {"behind": ["board", "thing", "names"], "lost": ["board", "thing", "names"],
+               "won": ["board", "thing", "names"], "kindest": ["board", "thing"]},
 }
 
 
@@ -67,6 +73,8 @@ class Language(unittest.TestCase):
             for node in ast.walk(ast.parse(text)):
                 with self.subTest(name):
                     self.assertNotIsInstance(node, ast.Import)
-                    if isinstance(node, ast.ImportFrom):
+                    if isinstance(node, ast.ImportFrom) and node.module == "itertools":
+                        self.assertEqual(["combinations"], [some.name for some in node.names])
+                    elif isinstance(node, ast.ImportFrom):
                         self.assertEqual("dimkeepers", node.module.split(".")[0])
                         self.assertIn(node.module.split(".")[1] + ".py", sources())
