@@ -8,6 +8,8 @@ from dimkeepers.errors import NoKeeper
 LETTERS = "abcdefghijklmnopqrstuvwxyz"
 MOST_LETTERS = 8
 MOST_ROOM = 12
+MOST_TEAMS = 3
+MOST_KEEPERS = 8
 
 
 def is_number(found):

@@ -78,7 +78,7 @@ def ways_on(layers):
 
 def ways_there(layers):
     """In how many ways just so much is left."""
-    ways = {left: 1 for left in layers[0]}
+    ways = {full: 1 for full in layers[0]}
     for layer in layers:
         for left, steps in layer.items():
             for _, rest in steps:
@@ -131,7 +131,8 @@ def nth(board, number):
     told = []
     skipped = 0
     for layer in layers[:-1]:
-        for thing, rest in layer[left]:
+        steps = layer[left]
+        for thing, rest in steps:
             if number < skipped + ways[rest]:
                 told.append(thing)
                 left = rest

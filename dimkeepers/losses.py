@@ -38,11 +38,16 @@ def is_known(board, one, other):
     return one in all_ahead(bars_of(board, things(board)), other)
 
 
+def has_all(some, part):
+    """Whether a list has all names of another one."""
+    return all(name in some for name in part)
+
+
 def least_ones(lists):
     """Of lists that come by how many names, those that have no other one of them within."""
     told = []
     for some in lists:
-        if not any(all(name in some for name in part) for part in told):
+        if not any(has_all(some, part) for part in told):
             told.append(some)
     return told
 

@@ -5,13 +5,13 @@ from itertools import combinations
 from dimkeepers.boards import names
 from dimkeepers.errors import TooMany
 
-MOST_KEEPERS = 6
+MOST_NAMES = 6
 
 
 def need_six(board):
     """Refuse a board that has more lists of names than can be looked through."""
     count = len(names(board))
-    if count > MOST_KEEPERS:
+    if count > MOST_NAMES:
         raise TooMany(1 << count)
 
 

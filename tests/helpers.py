@@ -249,3 +249,10 @@ def refusal(error, function, **given):
 def known_by(orders, one, other):
     """Whether one thing is ahead of another one in all of the orders."""
     return one != other and all(order.index(one) < order.index(other) for order in orders)
+
+
+def known_of(board):
+    """All known pairs, by all orders that the board can have."""
+    orders = orders_by_rule(board)
+    found = sorted({thing for _, keepers in board for keeper in keepers for thing in keeper[3]})
+    return {pair for pair in itertools.permutations(found, 2) if known_by(orders, *pair)}

@@ -94,7 +94,8 @@ class Bounds(unittest.TestCase):
     def test_newest_and_eldest_ones(self):
         for board in boards():
             known, found = pairs(board), things(board)
-            self.assertEqual([thing for thing in found if thing not in {other for _, other in known}], eldest_ones(board))
+            self.assertEqual([thing for thing in found if thing not in {other for _, other in known}],
+                             eldest_ones(board))
             self.assertEqual([thing for thing in found if not bars_by_word(board, found, thing)], newest(board))
         rows = [row for _, _, _, row in keepers_of(one_row_each((0, 0, 0), True))]
         self.assertEqual(sorted(row[-1] for row in rows), newest(one_row_each((0, 0, 0), True)))
@@ -148,7 +149,8 @@ class Bounds(unittest.TestCase):
         counted = 0
         for seed in range(40):
             chance = random.Random(seed)
-            teams = [(least, [(name, 12) for name in some]) for least, some in zip((1, 1, 0), (["ann", "bob"], ["cid"], []))]
+            teams = [(least, [(name, 12) for name in some]) for least, some in zip((1, 1, 0),
+                                                                                   (["ann", "bob"], ["cid"], []))]
             board = drawn(chance, teams, chance.sample(TWO_LETTERS, 60), 0.6)[1]
             number = many(board)
             for thing in chance.sample(things(board), 3):

@@ -29,8 +29,9 @@ def apart_rows(*lengths):
 
 def refused_asks():
     """Each function, with what else it is handed, twice of what it would refuse, too."""
-    return [(many, {}), (many_ahead, {"one": "strange", "other": ""}), (many_ahead, {"one": "strange", "other": "strange"}),
-            (places, {"thing": "strange"}), (nth, {"number": -1}), (nth, {"number": 10 ** 19}), (nth, {"number": 0})]
+    return [(many, {}), (many_ahead, {"one": "strange", "other": ""}),
+            (many_ahead, {"one": "strange", "other": "strange"}), (places, {"thing": "strange"}),
+            (nth, {"number": -1}), (nth, {"number": 10 ** 19}), (nth, {"number": 0})]
 
 
 class Numbers(unittest.TestCase):
@@ -163,8 +164,8 @@ class Refusals(unittest.TestCase):
         stuck = [(1, [("a", 12, True, TEXTS[:9]), ("b", 12, True, TEXTS[:9]), ("c", 12, True, TEXTS[:9])]),
                  (1, [("d", 12, True, TEXTS[:9]), ("e", 12, True, [])])]
         stuck[1][1][1][3].append("zz")
-        for board, lot in ((circle(), list("xyz")), (two_circles(), list("pqxy")), (three_teams(), ["bob", "milk", "tea"]),
-                           (stuck, ["zz"])):
+        for board, lot in ((circle(), list("xyz")), (two_circles(), list("pqxy")),
+                           (three_teams(), ["bob", "milk", "tea"]), (stuck, ["zz"])):
             for function, more in refused_asks():
                 self.assertEqual(lot, refusal(NoOrder, function, board=board, **more).lot)
             refusal(NoOrder, many_ahead, board=board, one=lot[0], other=lot[0])

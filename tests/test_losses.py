@@ -190,7 +190,8 @@ class Losses(unittest.TestCase):
                     for name in some:
                         self.assertTrue(ahead(without(board, [more for more in some if more != name]), one, other))
                 for some in show:
-                    self.assertTrue(ahead(without(board, [name for name in names(board) if name not in some]), one, other))
+                    self.assertTrue(ahead(without(board, [name for name in names(board) if name not in some]), one,
+                                          other))
                 self.assertTrue(all(set(some) & set(more) for some in free for more in show))
 
 

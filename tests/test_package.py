@@ -5,7 +5,7 @@ import inspect
 import pathlib
 import unittest
 
-from dimkeepers import boards, counts, known, losses, lots, orders, tellings, told
+from dimkeepers import boards, counts, known, losses, lots, orders, sessions, streams, tellings, texts, told, work
 
 FOLDER = pathlib.Path(boards.__file__).parent
 INTERFACE = {
@@ -27,7 +27,12 @@ INTERFACE = {
              "bears": ["board", "one", "other"]},
     tellings: {"behind": ["board", "thing", "names"], "lost": ["board", "thing", "names"],
                "won": ["board", "thing", "names"], "kindest": ["board", "thing"]},
+    streams: {"both": ["one", "other"], "only_both": ["one", "other"], "apart": ["one", "other"]},
+    texts: {"written": ["board"], "read": ["text"]},
+    sessions: {"session": ["leasts", "rows"]},
 }
+METHODS = {"come": ["team", "name", "room"], "tell": ["thing", "names"], "lose": ["name"], "resize": ["name", "room"],
+           "undo": [], "board": [], "deeds": [], "last": []}
 
 
 def sources():
@@ -44,6 +49,15 @@ class Interface(unittest.TestCase):
                     self.assertTrue(inspect.isfunction(function))
                     self.assertEqual(module.__name__, function.__module__)
                     self.assertEqual(arguments, list(inspect.signature(function).parameters))
+
+    def test_the_class_has_its_methods_itself(self):
+        self.assertEqual(work.__name__, work.Keepers.__module__)
+        self.assertEqual(["leasts"], list(inspect.signature(work.Keepers).parameters))
+        for name, arguments in METHODS.items():
+            with self.subTest(name):
+                method = vars(work.Keepers)[name]
+                self.assertTrue(inspect.isfunction(method))
+                self.assertEqual(["self", *arguments], list(inspect.signature(method).parameters))
 
 
 class Language(unittest.TestCase):

@@ -9,8 +9,8 @@ from dimkeepers.errors import NoKeeper, NoOrder, NoTelling, TooMany, Twice
 from dimkeepers.known import ahead, lot_shows, pairs
 from dimkeepers.tellings import behind, kindest, lost, won
 from tests.helpers import (
-    boards_with_orders, circle, drawn_boards, every_order, example, known_by, ladder, lots_of, one_team, orders_by_rule,
-    own_lists, rare_boards, refusal, three_teams, two_circles,
+    boards_with_orders, circle, drawn_boards, every_order, example, known_of, ladder, lots_of, one_team, own_lists,
+    rare_boards, refusal, three_teams, two_circles,
 )
 
 NO_NAMES = ["", "X", "xY", "x y", "x1", "abcdefghi", "no name at all"]
@@ -37,12 +37,6 @@ def tellable(board):
             if all(len([keeper for keeper in keepers if keeper[0] in some]) >= least for least, keepers in board)]
 
 
-def known_of(board):
-    """All known pairs, by all orders that the board can have."""
-    orders = orders_by_rule(board)
-    return {pair for pair in itertools.permutations(things(board), 2) if known_by(orders, *pair)}
-
-
 def small():
     """Small boards that can have an order, one of them of no team, and some of several teams."""
     yield []
@@ -57,15 +51,18 @@ class Behind(unittest.TestCase):
     def test_the_newest_thing_of_each_who_is_told(self):
         board = three_teams()
         self.assertEqual([(1, [("dan", 2, False, ["tea", "bob"]), ("ann", 3, True, ["bob", "new"])]), (0, []),
-                          (2, [("cid", 1, False, ["new"]), ("bob", 12, True, ["new"]), ("eve", 2, True, ["tea", "milk"])])],
+                          (2, [("cid", 1, False, ["new"]), ("bob", 12, True, ["new"]),
+                               ("eve", 2, True, ["tea", "milk"])])],
                          every_order(behind, board=board, thing="new", names=["ann", "bob", "cid"]))
 
     def test_who_forgets_is_whole_no_more(self):
         board = one_team(0, ("a", 2, True, ["x"]), ("b", 2, True, ["x", "y"]), ("c", 1, False, ["x"]))
         board = every_order(behind, board=board, thing="z", names=["a", "b", "c"])
-        self.assertEqual([(0, [("a", 2, True, ["x", "z"]), ("b", 2, False, ["y", "z"]), ("c", 1, False, ["z"])])], board)
+        self.assertEqual([(0, [("a", 2, True, ["x", "z"]), ("b", 2, False, ["y", "z"]), ("c", 1, False, ["z"])])],
+                         board)
         board = behind(board, "w", ["a", "b"])
-        self.assertEqual([(0, [("a", 2, False, ["z", "w"]), ("b", 2, False, ["z", "w"]), ("c", 1, False, ["z"])])], board)
+        self.assertEqual([(0, [("a", 2, False, ["z", "w"]), ("b", 2, False, ["z", "w"]), ("c", 1, False, ["z"])])],
+                         board)
         self.assertEqual((0, [("a", 2, False, ["w", "x"])]), (0, [behind(board, "x", ["a"])[0][1][0]]))
 
     def test_told_to_nobody_all_is_as_it_was(self):
@@ -137,7 +134,8 @@ class LostAndWon(unittest.TestCase):
                 still, found = known_of(left), things(left)
                 gone = [pair for pair in known if set(pair) <= set(found) and pair not in still]
                 self.assertEqual(sorted(gone), lost(board, "new", told), (board, told))
-                self.assertEqual(sorted(pair for pair in still if "new" in pair), won(board, "new", told), (board, told))
+                self.assertEqual(sorted(pair for pair in still if "new" in pair), won(board, "new", told),
+                                 (board, told))
                 lost_some += bool(gone)
         self.assertGreater(lost_some, 100)
 
@@ -205,9 +203,11 @@ class Kindest(unittest.TestCase):
             self.told(board, [])
 
     def test_each_team_is_told(self):
-        board = [(1, [("c", 2, True, ["x"]), ("d", 3, True, ["y"])]), (2, [("a", 4, True, ["x", "y"]), ("b", 4, True, ["x", "y"])])]
+        board = [(1, [("c", 2, True, ["x"]), ("d", 3, True, ["y"])]),
+                 (2, [("a", 4, True, ["x", "y"]), ("b", 4, True, ["x", "y"])])]
         self.told(board, ["a", "b", "c"])
-        self.told([(1, [("c", 1, True, []), ("d", 1, True, [])]), (1, [("a", 1, True, []), ("b", 1, True, [])])], ["a", "c"])
+        self.told([(1, [("c", 1, True, []), ("d", 1, True, [])]), (1, [("a", 1, True, []), ("b", 1, True, [])])],
+                  ["a", "c"])
 
     def test_by_all_lists_of_names(self):
         seen = set()
@@ -229,7 +229,8 @@ class Kindest(unittest.TestCase):
             told = kindest(board, "new")
             least = (len(lost(board, "new", told)), -len(won(board, "new", told)), len(told), told)
             for some in chance.sample(tellable(board), min(20, len(tellable(board)))):
-                self.assertLessEqual(least, (len(lost(board, "new", some)), -len(won(board, "new", some)), len(some), some))
+                self.assertLessEqual(least,
+                                     (len(lost(board, "new", some)), -len(won(board, "new", some)), len(some), some))
 
 
 class Refusals(unittest.TestCase):
@@ -247,7 +248,8 @@ class Refusals(unittest.TestCase):
         for board in (example(), circle(), three_teams()):
             right = names(board)
             for text in STRANGE:
-                for told in ([text], [right[1], text], [text, *right[::-1]], [*right, text], [right[0], right[0], text]):
+                for told in ([text], [right[1], text], [text, *right[::-1]], [*right, text],
+                             [right[0], right[0], text]):
                     for ask in ASKS:
                         refusal(NoKeeper, ask, board=board, thing="new", names=told)
 
@@ -286,7 +288,8 @@ class Refusals(unittest.TestCase):
     def test_kindest_of_too_many(self):
         for count, more in ((7, 128), (8, 256)):
             keepers = [(name, 2, True, ["x", "y"][::sign]) for name, sign in zip("abcdefgh", (1, -1) * 4)]
-            for board in ([(0, keepers[:3]), (1, keepers[3:count])], [(0, [(name, 1, True, []) for name in "abcdefgh"[:count]])]):
+            for board in ([(0, keepers[:3]), (1, keepers[3:count])],
+                          [(0, [(name, 1, True, []) for name in "abcdefgh"[:count]])]):
                 for thing in ("new", "x", ""):
                     self.assertEqual(more, refusal(TooMany, kindest, board=board, thing=thing).many)
 
