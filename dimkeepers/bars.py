@@ -53,13 +53,18 @@ def free_of(bars, lot, held):
     return [thing for thing in lot if not is_barred(bars[thing], beside)]
 
 
-def taken_out(bars, lot, held):
-    """What can be taken out of a lot beside held things, round by round, and what is left."""
-    told = []
-    left = list(lot)
-    free = free_of(bars, left, held)
-    while free:
-        told.append(free)
-        left = [thing for thing in left if thing not in free]
-        free = free_of(bars, left, held)
-    return (told, left)
+def left_of(bars, lot, held):
+    """What is left of a lot beside held things, once all that can be is taken out."""
+    beside = {thing: True for thing in [*lot, *held]}
+    left = lot
+    count = len(left) + 1
+    while len(left) < count:
+        count = len(left)
+        kept = []
+        for thing in left:
+            if is_barred(bars[thing], beside):
+                kept.append(thing)
+            else:
+                del beside[thing]
+        left = kept
+    return left

@@ -1,10 +1,10 @@
 """What is known of which of two things came ahead of the other."""
 
-from dimkeepers.bars import bars_of, free_of, taken_out
+from dimkeepers.bars import bars_of, free_of, left_of
 from dimkeepers.boards import things
 from dimkeepers.errors import NoThing
 from dimkeepers.lots import is_lot
-from dimkeepers.orders import need_order, newest_first
+from dimkeepers.orders import need_order, newest_first, order_of
 
 
 def need_things(board, asked):
@@ -16,10 +16,16 @@ def need_things(board, asked):
             raise NoThing(f"nobody remembers {thing}")
 
 
+def bars_down(board):
+    """The bars of all things, in an order that the board can have, from the newest thing on."""
+    # A thing is barred most often by one behind it. So, looked through from the newest
+    # on, hardly any lot has to be looked through again.
+    return bars_of(board, order_of(board)[::-1])
+
+
 def all_ahead(bars, other):
-    """The things that are known to be ahead of another one: a lot that shows it of each."""
-    rest = [thing for thing in bars if thing != other]
-    return taken_out(bars, rest, [other])[1]
+    """The things that are known to be ahead of another one, in the order of the bars."""
+    return left_of(bars, [thing for thing in bars if thing != other], [other])
 
 
 def lot_for(board, one, other):
@@ -60,8 +66,7 @@ def against(board, one, other):
 
 def pairs(board):
     """All (one, other) of which the one is known to be ahead, rising."""
-    need_order(board)
-    bars = bars_of(board, things(board))
+    bars = bars_down(board)
     return sorted([(one, other) for other in bars for one in all_ahead(bars, other)])
 
 
@@ -74,6 +79,5 @@ def newest(board):
 
 def eldest_ones(board):
     """The things that may be the eldest, rising."""
-    need_order(board)
-    bars = bars_of(board, things(board))
-    return [thing for thing in bars if not all_ahead(bars, thing)]
+    bars = bars_down(board)
+    return sorted([thing for thing in bars if not all_ahead(bars, thing)])

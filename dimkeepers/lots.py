@@ -1,6 +1,6 @@
 """Lots: rising lists of things, and the things that are barred by them."""
 
-from dimkeepers.bars import bar_of, bars_of, free_of, is_barred, taken_out
+from dimkeepers.bars import bar_of, bars_of, free_of, is_barred, left_of
 from dimkeepers.boards import things
 
 
@@ -16,12 +16,21 @@ def barred(board, lot, thing):
 
 def rounds(board, lot):
     """What can be taken out of a lot, round by round, and the lot that is left."""
-    return taken_out(bars_of(board, lot), lot, [])
+    bars = bars_of(board, lot)
+    told = []
+    left = list(lot)
+    free = free_of(bars, left, [])
+    while free:
+        told.append(free)
+        left = [thing for thing in left if thing not in free]
+        free = free_of(bars, left, [])
+    return (told, left)
 
 
 def stuck(board):
     """The greatest stuck lot of a board, or the empty list."""
-    return rounds(board, things(board))[1]
+    found = things(board)
+    return left_of(bars_of(board, found), found, [])
 
 
 def stuck_shows(board, lot):

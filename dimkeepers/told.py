@@ -1,6 +1,6 @@
 """Whether a thing was told to a keeper, and what shows it."""
 
-from dimkeepers.bars import bar_of, bars_of, free_of, taken_out
+from dimkeepers.bars import bar_of, bars_of, free_of, left_of
 from dimkeepers.boards import keeper_called, things
 from dimkeepers.known import against, lot_for, lot_shows, need_things
 from dimkeepers.lots import is_lot
@@ -33,7 +33,7 @@ def yes_paper(board, thing, keeper):
     if thing in row:
         return ("row",)
     bars = bars_without(board, thing, name)
-    lot = taken_out(bars, list(bars), [])[1]
+    lot = left_of(bars, list(bars), [])
     return ("lot", lot) if lot else None
 
 
